@@ -1,0 +1,1 @@
+"""A queue of jobs and the initiators that pick them."""
