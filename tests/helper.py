@@ -117,10 +117,12 @@ class DeskCase(unittest.TestCase):
     def refuses(self, before, call, refusal):
         """After the calls before, call answers refusal and has changed nothing."""
         self.tells(before, call, [refusal])
-        board = board_after(*before)
+        self.refuses_on(board_after(*before), call, refusal)
+
+    def refuses_on(self, board, call, refusal):
         earlier = picture(board)
-        self.assertEqual(answers_on(board, list(call)), [1, refusal], (before, call))
-        self.assertEqual(picture(board), earlier, (before, call))
+        self.assertEqual(answers_on(board, list(call)), [1, refusal], call)
+        self.assertEqual(picture(board), earlier, call)
 
     def refuses_as_job(self, before, call_on):
         """What every call on a job refuses; before has handed in exactly one job."""

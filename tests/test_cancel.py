@@ -97,7 +97,7 @@ class RunningTest(DeskCase):
 
     def test_a_running_job_is_not_in_the_right_state(self):
         for call in ([2, 1], [3, 1], [4, 1, 1, 0], [5, 1], [6, 1]):
-            self.assertEqual(answers_on(self.board(), call), [1, -6], call)
+            self.refuses_on(self.board(), call, -6)
 
     def test_a_test_of_a_running_job_stays(self):
         board = self.board()

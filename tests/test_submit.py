@@ -139,15 +139,15 @@ class SubmitRoomTest(DeskCase):
     def test_greatest_cap(self):
         for before in ([], [begin(500)]):
             board = board_after(*before, *[submit()] * 399)
-            self.assertEqual(answers_on(board, submit() * 102)[-4:], [1, 500, 1, -8])
-            self.assertEqual(len(board.jobs), 500)
+            self.assertEqual(answers_on(board, submit() * 101)[-2:], [1, 500])
+            self.refuses_on(board, submit(), -8)
 
     def test_last_number(self):
         board = board_after()
         board.last_number = 999998
         self.assertEqual(answers_on(board, submit()), [1, 999999])
         self.assertEqual(answers_on(board, cancel(999999) + forget(999999)), [2, 0, 0, 1, 0])
-        self.assertEqual(answers_on(board, submit()), [1, -8])
+        self.refuses_on(board, submit(), -8)
         self.assertEqual((board.last_number, board.jobs), (999999, {}))
 
 

@@ -67,3 +67,4 @@ class EndTest(unittest.TestCase):
             board = board_after(submit())
             end_job(board.jobs, board.jobs[1], state, code)
             self.assertEqual(answers_on(board, asked)[1::2], told)
+            self.assertEqual(list(board.jobs), [1] + [number for number in told if number > 0])
