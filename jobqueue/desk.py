@@ -1,8 +1,11 @@
 """The interface: a list of calls in, a list of their answers out."""
 
 from jobqueue.board import Board
-from jobqueue.classcalls import close_class, limit_class, open_class, serve, start
+from jobqueue.classcalls import close_class, limit_class, open_class
+from jobqueue.initiatorcalls import drain, finish, peek, pick, requeue, serve, start
 from jobqueue.jobcalls import begin, cancel, change, forget, hold, letgo, submit, tick
+from jobqueue.questions import tell_after, tell_class, tell_counts, tell_initiator, tell_order, tell_running
+from jobqueue.questions import tell_status, tell_tests
 
 FIRST_CAP = 500
 FIRST_K = 10
@@ -21,6 +24,18 @@ CLOSE = 9
 OPEN = 10
 START = 11
 SERVE = 12
+DRAIN = 13
+PICK = 14
+PEEK = 15
+FINISH = 16
+REQUEUE = 17
+ORDER = 18
+STATUS = 19
+TESTS = 20
+AFTER = 21
+RUNNING = 22
+COUNTS = 23
+INITIATOR = 24
 
 # By a call's number: how many whole numbers it has, and how many rows behind them.
 SHAPES = {
@@ -37,6 +52,19 @@ SHAPES = {
     10: (1, 0),  # open
     11: (1, 1),  # start
     12: (1, 1),  # serve
+    13: (1, 0),  # drain
+    14: (1, 0),  # pick
+    15: (1, 0),  # peek
+    16: (3, 0),  # finish
+    17: (1, 0),  # requeue
+    18: (1, 0),  # order
+    19: (1, 0),  # status
+    20: (1, 0),  # tests
+    21: (1, 0),  # after
+    22: (0, 0),  # running
+    23: (0, 0),  # counts
+    24: (1, 0),  # initiator
+    25: (1, 0),  # class
 }
 
 
@@ -78,16 +106,46 @@ def answer_on_jobs(board, call, numbers, rows):
     return tick(board, numbers[0])
 
 
-def answer_on_classes(board, call, numbers, rows):
+def answer_on_classes(board, call, numbers):
     if call == LIMIT:
         return limit_class(board, numbers[0], numbers[1])
     if call == CLOSE:
         return close_class(board, numbers[0])
-    if call == OPEN:
-        return open_class(board, numbers[0])
+    return open_class(board, numbers[0])
+
+
+def answer_on_initiators(board, call, numbers, rows):
     if call == START:
         return start(board, numbers[0], rows[0])
-    return serve(board, numbers[0], rows[0])
+    if call == SERVE:
+        return serve(board, numbers[0], rows[0])
+    if call == DRAIN:
+        return drain(board, numbers[0])
+    if call == PICK:
+        return pick(board, numbers[0])
+    if call == PEEK:
+        return peek(board, numbers[0])
+    if call == FINISH:
+        return finish(board, numbers[0], numbers[1], numbers[2])
+    return requeue(board, numbers[0])
+
+
+def answer_question(board, call, numbers):
+    if call == ORDER:
+        return tell_order(board, numbers[0])
+    if call == STATUS:
+        return tell_status(board, numbers[0])
+    if call == TESTS:
+        return tell_tests(board, numbers[0])
+    if call == AFTER:
+        return tell_after(board, numbers[0])
+    if call == RUNNING:
+        return tell_running(board)
+    if call == COUNTS:
+        return tell_counts(board)
+    if call == INITIATOR:
+        return tell_initiator(board, numbers[0])
+    return tell_class(board, numbers[0])
 
 
 def answer_next(board, reader):
@@ -97,7 +155,11 @@ def answer_next(board, reader):
     rows = [reader.take_row() for turn in range(shape[1])]
     if call <= TICK:
         return answer_on_jobs(board, call, numbers, rows)
-    return answer_on_classes(board, call, numbers, rows)
+    if call <= OPEN:
+        return answer_on_classes(board, call, numbers)
+    if call <= REQUEUE:
+        return answer_on_initiators(board, call, numbers, rows)
+    return answer_question(board, call, numbers)
 
 
 def answers_on(board, calls):

@@ -36,6 +36,10 @@ def is_yes_or_no(n):
     return 0 <= n <= 1
 
 
+def is_code(n):
+    return 0 <= n <= 4095
+
+
 def is_ticks(n):
     return 1 <= n <= 1000000
 
@@ -85,4 +89,8 @@ def split_tests(row):
 
 
 def is_test(job, kind, n):
-    return is_job_number(job) and 0 <= kind <= 3 and 0 <= n <= 4095
+    return is_job_number(job) and 0 <= kind <= 3 and is_code(n)
+
+
+def counted(row):
+    return [len(row)] + row

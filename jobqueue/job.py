@@ -12,6 +12,8 @@ AFTER_CODE_AT_MOST = 1
 AFTER_CODE_ABOVE_OR_ABEND = 2
 AFTER_ABEND = 3
 
+GREATEST_RANK = 15
+
 
 class Job:
     def __init__(self, number, name, class_of, priority, held, tests):
@@ -35,6 +37,14 @@ def has_ended(job):
 
 def is_ready(job):
     return job.state == WAITING and not job.held and len(job.tests) == 0
+
+
+def is_due(job):
+    return job.due_turn != 0
+
+
+def rank_of(job, a):
+    return min(job.priority + job.waited // a, GREATEST_RANK)
 
 
 def is_met(kind, n, state, code):

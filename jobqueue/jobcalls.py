@@ -1,21 +1,13 @@
 """The calls on jobs: begin, submit, hold, letgo, change, cancel, forget, tick."""
 
 from jobqueue.ending import end_job, has_failed_test, tests_still_open
-from jobqueue.forms import LAST_JOB, is_a, is_cap, is_class, is_job_number, is_k, is_name, is_priority
+from jobqueue.forms import LAST_JOB, counted, is_a, is_cap, is_class, is_k, is_name, is_priority
 from jobqueue.forms import is_row_of_tests, is_test, is_ticks, is_yes_or_no, split_tests
 from jobqueue.job import CANCELLED, WAITING, Job, has_ended, is_ready
 from jobqueue.refusals import BAD_FORM, NO_JOB, NO_ROOM, NOT_REFUSED, OUT_OF_RANGE, SO_ALREADY, TEST_FAILED
-from jobqueue.refusals import WRONG_STATE
+from jobqueue.refusals import WRONG_STATE, refusal_of_job
 
 LAST_TIME = 100000000
-
-
-def refusal_of_job(board, number):
-    if not is_job_number(number):
-        return OUT_OF_RANGE
-    if number not in board.jobs:
-        return NO_JOB
-    return NOT_REFUSED
 
 
 def refusal_of_waiting_job(board, number):
@@ -111,7 +103,7 @@ def cancel(board, number):
     if refusal != NOT_REFUSED:
         return [refusal]
     flushed = end_job(board.jobs, board.jobs[number], CANCELLED, 0)
-    return [len(flushed), len(flushed)] + flushed
+    return [len(flushed)] + counted(flushed)
 
 
 def forget(board, number):

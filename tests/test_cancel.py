@@ -1,5 +1,6 @@
 from jobqueue.desk import answers_on
-from tests.helper import DeskCase, ask, board_after, cancel, forget, hold, letgo, submit
+from tests.helper import DeskCase, ask, board_after, cancel, change, finish, forget, hold, letgo, pick, row_told, start
+from tests.helper import status, status_told, submit, tests_of
 
 
 class CancelTest(DeskCase):
@@ -25,7 +26,7 @@ class CancelTest(DeskCase):
     def test_one_whose_test_is_met_stays(self):
         before = [submit(), submit(tests=[(1, 1, 4095)]), submit(tests=[(1, 0, 0)]), submit(tests=[(1, 3, 0)])]
         self.assertEqual(ask(*before, cancel(1), hold(3), hold(2), hold(4))[4:], [[2, 2, 2, 4], [0], [-6], [-6]])
-        self.assertEqual(board_after(*before, cancel(1)).jobs[3].tests, [])
+        self.tells(before + [cancel(1)], tests_of(3), [0, 0])
 
     def test_several_steps(self):
         before = [submit(), submit(tests=[(1, 1, 0)]), submit(tests=[(2, 2, 0)]), submit(tests=[(3, 3, 0)]),
@@ -55,7 +56,7 @@ class CancelTest(DeskCase):
 
     def test_other_tests_stay(self):
         before = [submit(), submit(), submit(tests=[(2, 1, 5), (1, 0, 0), (2, 3, 6)])]
-        self.assertEqual(board_after(*before, cancel(1)).jobs[3].tests, [(2, 1, 5), (2, 3, 6)])
+        self.tells(before + [cancel(1)], tests_of(3), [2, 6, 2, 1, 5, 2, 3, 6])
         self.assertEqual(ask(*before, cancel(1), cancel(2))[3:], [[0, 0], [1, 1, 3]])
 
     def test_a_held_job_is_flushed_too(self):
@@ -88,25 +89,24 @@ class CancelTest(DeskCase):
 
 
 class RunningTest(DeskCase):
-    """No call of this stage sets a job running, so the state is set by hand."""
+    """Job 1 is running, and job 3 comes after it."""
 
-    def board(self):
-        board = board_after(submit(), submit(), submit(tests=[(1, 1, 4), (2, 3, 0)]))
-        board.jobs[1].state = 1
-        return board
+    BEFORE = [submit(), submit(3), submit(tests=[(1, 1, 4), (2, 3, 0)]), start(1, [1]), pick(1)]
 
     def test_a_running_job_is_not_in_the_right_state(self):
-        for call in ([2, 1], [3, 1], [4, 1, 1, 0], [5, 1], [6, 1]):
-            self.refuses_on(self.board(), call, -6)
+        for call in (hold(1), letgo(1), change(1), cancel(1), forget(1)):
+            self.refuses(self.BEFORE, call, -6)
+
+    def test_ranges_go_before_the_state(self):
+        self.refuses(self.BEFORE, change(1, 37, 0), -1)
+        self.refuses(self.BEFORE, change(1, 1, 16), -1)
 
     def test_a_test_of_a_running_job_stays(self):
-        board = self.board()
-        self.assertEqual(answers_on(board, submit(tests=[(1, 3, 0)])), [1, 4])
-        self.assertEqual(board.jobs[4].tests, [(1, 3, 0)])
+        self.at_last(self.BEFORE + [submit(tests=[(1, 3, 0)]), tests_of(4)], [[4], [1, 3, 1, 3, 0]])
 
     def test_tests_of_running_jobs_stay_at_another_end(self):
-        board = self.board()
-        answers_on(board, submit(tests=[(2, 0, 0), (1, 1, 4)]))
-        self.assertEqual(answers_on(board, cancel(2)), [3, 1, 1, 3])
-        self.assertEqual(board.jobs[4].tests, [(1, 1, 4)])
-        self.assertEqual(board.jobs[1].state, 1)
+        self.at_last(self.BEFORE + [submit(tests=[(2, 0, 0), (1, 1, 4)]), cancel(2), tests_of(4), status(1)],
+                     [row_told(3), [1, 3, 1, 1, 4], status_told(state=1)])
+
+    def test_one_that_came_after_it_is_cancelled_first(self):
+        self.at_last(self.BEFORE + [cancel(3), finish(1, 0, 5), status(3)], [[0, 0], [0, 0], status_told(state=5)])

@@ -1,7 +1,5 @@
-from jobqueue.desk import answers_on
-from tests.helper import GREATEST, LEAST, DeskCase, ask, board_after, close, limit, open_class, submit
-
-NO_CLASSES = (LEAST, -1, 0, 37, GREATEST)
+from tests.helper import GREATEST, LEAST, NO_CLASSES, DeskCase, ask, class_of_number, class_told, close, limit
+from tests.helper import open_class, pick, running, start, submit
 
 
 class LimitTest(DeskCase):
@@ -10,18 +8,18 @@ class LimitTest(DeskCase):
             self.tells([submit()], call, [0])
 
     def test_the_limit_is_set_for_this_class_alone(self):
-        board = board_after(limit(5, 0), limit(6, 3), limit(6, 9))
-        self.assertEqual((board.limits[4], board.limits[5], board.limits[6], board.limits[7]), (16, 0, 9, 16))
+        before = [limit(5, 0), limit(6, 3), limit(6, 9)]
+        self.at_last(before + [class_of_number(class_of) for class_of in (4, 5, 6, 7)],
+                     [class_told(n) for n in (16, 0, 9, 16)])
 
     def test_the_same_limit_again(self):
         self.assertEqual(ask(limit(1, 16), limit(1, 3), limit(1, 3)), [[0], [0], [0]])
 
     def test_answers_how_many_of_the_class_are_running(self):
-        board = board_after(*[submit(class_of) for class_of in (3, 3, 4, 3)])
-        for number in (1, 3, 4):
-            board.jobs[number].state = 1
-        self.assertEqual(answers_on(board, limit(3, 0) + limit(4, 1) + limit(5, 1)), [1, 2, 1, 1, 1, 0])
-        self.assertEqual([board.jobs[number].state for number in (1, 2, 3, 4)], [1, 0, 1, 1])
+        before = [submit(3, name="A"), submit(3, name="B"), submit(4, name="C")]
+        before += [start(1, [3]), start(2, [3]), start(3, [4]), submit(3, name="D"), pick(1), pick(2), pick(3)]
+        self.at_last(before + [limit(3, 0), limit(4, 1), limit(5, 1), running()],
+                     [[2], [1], [0], [3, 6, 1, 1, 2, 2, 3, 3]])
 
     def test_class_out_of_range(self):
         for class_of in NO_CLASSES:
@@ -35,8 +33,8 @@ class LimitTest(DeskCase):
 class CloseAndOpenTest(DeskCase):
     def test_close_and_open(self):
         self.assertEqual(ask(close(1), open_class(1), close(1), close(36), open_class(36)), [[0]] * 5)
-        board = board_after(close(2), close(3), open_class(3))
-        self.assertEqual([board.closed[number] for number in (1, 2, 3)], [False, True, False])
+        self.at_last([close(2), close(3), open_class(3)] + [class_of_number(class_of) for class_of in (1, 2, 3)],
+                     [class_told(), class_told(closed=1), class_told()])
 
     def test_out_of_range(self):
         for class_of in NO_CLASSES:

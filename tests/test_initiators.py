@@ -1,7 +1,6 @@
-from jobqueue.desk import answers_on
-from tests.helper import GREATEST, LEAST, DeskCase, ask, board_after, serve, start
+from tests.helper import GREATEST, LEAST, NO_INITIATORS, DeskCase, ask, drain, finish, initiator_of, initiator_told
+from tests.helper import pick, serve, start, submit
 
-NO_INITIATORS = (LEAST, -1, 0, 17, GREATEST)
 LISTS = ([1], [36], [36, 1], [1, 2, 3, 4, 5, 6, 7, 8], [36, 35, 34, 33, 4, 3, 2, 1])
 NO_LISTS = (
     [], [1, 2, 3, 4, 5, 6, 7, 8, 9], list(range(1, 37)), [1] * 400,
@@ -12,8 +11,7 @@ NO_LISTS = (
 class StartTest(DeskCase):
     def test_lists_of_classes(self):
         for classes in LISTS:
-            self.tells([], start(1, classes), [0])
-            self.assertEqual(board_after(start(1, classes)).initiators[1].classes, classes)
+            self.at_last([start(1, classes), initiator_of(1)], [[0], initiator_told(1, classes)])
 
     def test_no_lists_of_classes(self):
         for classes in NO_LISTS:
@@ -36,19 +34,14 @@ class StartTest(DeskCase):
         self.refuses([start(1, [4])], start(1, []), -2)
 
     def test_what_a_started_initiator_is(self):
-        board = board_after()
-        initiator = board.initiators[3]
-        initiator.draining = True
-        initiator.runs = 9
-        self.assertEqual(answers_on(board, start(3, [8, 2])), [1, 0])
-        self.assertEqual(vars(initiator), {"on": True, "classes": [8, 2], "draining": False, "runs": 0})
+        before = [start(3, [1]), submit(), pick(3), drain(3), finish(3)]
+        self.at_last(before + [start(3, [8, 2]), initiator_of(3)], [[0], initiator_told(1, [8, 2])])
 
 
 class ServeTest(DeskCase):
     def test_lists_of_classes(self):
         for classes in LISTS:
-            self.tells([start(16, [9])], serve(16, classes), [0])
-            self.assertEqual(board_after(start(16, [9]), serve(16, classes)).initiators[16].classes, classes)
+            self.at_last([start(16, [9]), serve(16, classes), initiator_of(16)], [[0], initiator_told(1, classes)])
 
     def test_no_lists_of_classes(self):
         for classes in NO_LISTS:
@@ -68,13 +61,9 @@ class ServeTest(DeskCase):
         self.refuses([], serve(1, []), -2)
 
     def test_all_else_stays(self):
-        board = board_after(start(3, [1]), start(4, [1]))
-        initiator = board.initiators[3]
-        initiator.draining = True
-        initiator.runs = 9
-        self.assertEqual(answers_on(board, serve(3, [8, 2])), [1, 0])
-        self.assertEqual(vars(initiator), {"on": True, "classes": [8, 2], "draining": True, "runs": 9})
-        self.assertEqual(board.initiators[4].classes, [1])
+        before = [start(3, [1]), start(4, [1]), submit(), pick(3), drain(3)]
+        self.at_last(before + [serve(3, [8, 2]), initiator_of(3), initiator_of(4)],
+                     [[0], initiator_told(1, [8, 2], 1, 1), initiator_told(1, [1])])
 
     def test_the_same_list_again(self):
         self.assertEqual(ask(start(1, [1]), serve(1, [1]), serve(1, [1])), [[0], [0], [0]])

@@ -22,6 +22,8 @@ isupper items join keys ljust lower lstrip partition pop remove replace reverse 
 setdefault split splitlines startswith strip update upper values zfill bit_length""".split()
 WORDS = """type typing typing_extensions enum Enum IntEnum StrEnum Flag IntFlag Generic Protocol ABC ABCMeta namedtuple
 NamedTuple TypedDict TYPE_CHECKING abstractmethod""".split()
+KEYWORDS = {"sorted": {"key", "reverse"}, "min": {"key", "default"}, "max": {"key", "default"}, "sum": {"start"},
+            "enumerate": {"start"}, "zip": {"strict"}}
 NOT_USED = "register mro elements open input version_info with_traceback add_note format format_map".split()
 
 
@@ -111,6 +113,55 @@ class LanguageTest(unittest.TestCase):
             self.assertTrue(name in OWN_NAMES or not hasattr(builtins, name), (file, name))
             if not isinstance(node, ast.Name) or isinstance(node.ctx, ast.Store):
                 self.assertNotIn(name, OWN_NAMES, file)
+
+    def test_no_local_is_called_like_a_class_or_an_import_of_its_file(self):
+        for file, tree in trees():
+            taken = [row.name for row in tree.body if isinstance(row, ast.ClassDef)]
+            taken += [alias.name for row in tree.body if isinstance(row, ast.ImportFrom) for alias in row.names]
+            for node in ast.walk(tree):
+                if isinstance(node, ast.arg):
+                    self.assertNotIn(node.arg, taken, file)
+                if isinstance(node, ast.Name) and isinstance(node.ctx, ast.Store):
+                    self.assertNotIn(node.id, taken, file)
+
+    def test_names_at_a_files_top_are_bound_once(self):
+        for file, tree in trees():
+            names = [row.name for row in tree.body if isinstance(row, (ast.FunctionDef, ast.ClassDef))]
+            names += [row.targets[0].id for row in tree.body if isinstance(row, ast.Assign)]
+            names += [alias.name for row in tree.body if isinstance(row, ast.ImportFrom) for alias in row.names]
+            self.assertEqual(len(names), len(set(names)), file)
+
+    def test_one_plain_target_in_an_assignment(self):
+        for file, node in nodes((ast.Assign, ast.AugAssign)):
+            target = node.targets[0] if isinstance(node, ast.Assign) else node.target
+            self.assertIsInstance(target, (ast.Name, ast.Attribute, ast.Subscript), (file, node.lineno))
+
+    def test_is_stands_beside_plain_values(self):
+        for file, node in nodes(ast.Compare):
+            for sign, right in zip(node.ops, node.comparators):
+                if isinstance(sign, (ast.Is, ast.IsNot)):
+                    self.assertIsInstance(right, ast.Constant, (file, node.lineno))
+                    self.assertIn(right.value, (None, True, False), (file, node.lineno))
+
+    def test_keywords(self):
+        for file, node in nodes(ast.Call):
+            if isinstance(node.func, ast.Name) and node.func.id in KEYWORDS:
+                self.assertLessEqual({word.arg for word in node.keywords}, KEYWORDS[node.func.id], (file, node.lineno))
+            elif isinstance(node.func, ast.Attribute) or node.func.id in OWN_NAMES:
+                self.assertEqual(node.keywords, [], (file, node.lineno))
+
+    def test_walks(self):
+        for file, node in nodes(ast.ListComp):
+            self.assertEqual(len(node.generators), 1, (file, node.lineno))
+            self.assertLessEqual(len(node.generators[0].ifs), 1, (file, node.lineno))
+        rows = [(file, node.lineno) for file, node in nodes(ast.Lambda)]
+        self.assertEqual(len(rows), len(set(rows)))
+
+    def test_no_annotations(self):
+        for file, node in nodes(ast.arg):
+            self.assertIsNone(node.annotation, (file, node.lineno))
+        for file, node in nodes(ast.FunctionDef):
+            self.assertIsNone(node.returns, (file, node.lineno))
 
     def test_methods_and_values(self):
         methods = [row.name for file, node in nodes(ast.ClassDef) for row in node.body]

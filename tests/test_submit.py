@@ -1,5 +1,6 @@
 from jobqueue.desk import answers_on
-from tests.helper import GREATEST, LEAST, DeskCase, ask, begin, board_after, cancel, forget, hold, letgo, submit
+from tests.helper import GREATEST, LEAST, DeskCase, after, ask, begin, board_after, cancel, forget, hold, letgo
+from tests.helper import pick, row_told, start, status, status_told, submit, tests_of
 
 # Job 1 is cancelled, job 2 is flushed by it, job 3 waits.
 ENDED = [submit(), submit(tests=[(1, 1, 4095)]), submit(), cancel(1)]
@@ -31,7 +32,10 @@ class SubmitNumbersTest(DeskCase):
         self.assertEqual(ask(submit(held=0), letgo(1), hold(1)), [[1], [-5], [0]])
 
     def test_what_the_new_job_is(self):
-        job = board_after(submit(), submit(36, 15, 1, "AB9", [(1, 2, 3)])).jobs[2]
+        before = [submit(), submit(36, 15, 1, "AB9", [(1, 2, 3)])]
+        self.at_last(before + [status(2), tests_of(2), after(1)],
+                     [status_told("AB9", 0, 0, 36, 15, held=1), [1, 3, 1, 2, 3], row_told(2)])
+        job = board_after(*before).jobs[2]
         self.assertEqual(vars(job), {
             "number": 2, "name": [65, 66, 57], "class_of": 36, "priority": 15, "held": True, "tests": [(1, 2, 3)],
             "state": 0, "code": 0, "waited": 0, "passed_over": 0, "due_turn": 0})
@@ -114,8 +118,8 @@ class SubmitTestsTest(DeskCase):
                     self.refuses(ENDED, submit(tests=[(3, 0, 0), (job, 0, 0), (job, kind, n)]), -7)
 
     def test_met_tests_are_gone_and_others_stay_in_order(self):
-        board = board_after(*ENDED, submit(), submit(tests=[(4, 1, 2), (1, 0, 0), (3, 2, 5), (2, 0, 9), (3, 3, 0)]))
-        self.assertEqual(board.jobs[5].tests, [(4, 1, 2), (3, 2, 5), (3, 3, 0)])
+        before = ENDED + [submit(), submit(tests=[(4, 1, 2), (1, 0, 0), (3, 2, 5), (2, 0, 9), (3, 3, 0)])]
+        self.tells(before, tests_of(5), [3, 9, 4, 1, 2, 3, 2, 5, 3, 3, 0])
 
     def test_a_met_test_that_is_gone_flushes_nobody_later(self):
         self.assertEqual(ask(*ENDED, submit(tests=[(1, 0, 0)]), forget(1), cancel(3), letgo(4))[4:],
@@ -131,6 +135,9 @@ class SubmitRoomTest(DeskCase):
         self.refuses([begin(1), submit(), cancel(1)], submit(), -8)
         self.refuses([begin(3)] + ENDED, submit(), -8)
         self.tells([begin(4)] + ENDED, submit(), [4])
+
+    def test_cap_of_running_jobs(self):
+        self.refuses([begin(1), submit(), start(1, [1]), pick(1)], submit(), -8)
 
     def test_forget_makes_room(self):
         self.assertEqual(ask(begin(1), submit(), cancel(1), submit(), forget(1), submit(), submit()),

@@ -1,5 +1,5 @@
-from jobqueue.desk import answers_on
-from tests.helper import GREATEST, LEAST, DeskCase, ask, board_after, cancel, hold, letgo, submit, tick
+from tests.helper import GREATEST, LEAST, DeskCase, ask, cancel, finish, hold, letgo, pick, requeue, start, status
+from tests.helper import submit, tick
 
 # The time is 99000000.
 LATE = [tick(1000000)] * 99
@@ -27,18 +27,24 @@ class TickTest(DeskCase):
         self.refuses(LATE + [tick(1000000)], tick(1000001), -1)
         self.refuses(LATE + [tick(1000000)], tick(0), -1)
 
+    def waited(self, calls, expected):
+        """The ticks that the jobs 1 and further have waited after the calls."""
+        told = ask(*calls, *[status(job) for job in range(1, 1 + len(expected))])[len(calls):]
+        self.assertEqual([answer[-3] for answer in told], expected)
+
     def test_ready_jobs_have_waited_and_others_not(self):
-        board = board_after(submit(), submit(held=1), submit(tests=[(1, 0, 0)]), submit(), cancel(4), tick(7),
-                            submit(), tick(20))
-        board.jobs[5].state = 1
-        self.assertEqual([board.jobs[number].waited for number in range(1, 6)], [27, 0, 0, 0, 20])
-        answers_on(board, tick(3))
-        self.assertEqual([board.jobs[number].waited for number in range(1, 6)], [30, 0, 0, 0, 20])
+        before = [submit(), submit(held=1), submit(tests=[(1, 0, 0)]), submit(), cancel(4), tick(7),
+                  submit(2), tick(20), start(1, [2]), pick(1)]
+        self.waited(before, [27, 0, 0, 0, 20])
+        self.waited(before + [tick(3)], [30, 0, 0, 0, 20])
+        self.waited(before + [finish(1), tick(3)], [30, 0, 0, 0, 20])
+        self.waited(before + [tick(3), requeue(1), tick(4), letgo(5), tick(5)], [39, 0, 0, 0, 25])
 
     def test_what_a_job_has_waited_stays(self):
-        board = board_after(submit(), tick(5), hold(1), tick(50), letgo(1), tick(500))
-        self.assertEqual(board.jobs[1].waited, 505)
+        self.waited([submit(), tick(5), hold(1), tick(50), letgo(1), tick(500)], [505])
 
     def test_a_job_is_ready_when_its_tests_are_gone(self):
-        board = board_after(submit(), submit(tests=[(1, 0, 0)]), tick(5), cancel(1), tick(50))
-        self.assertEqual((board.jobs[1].waited, board.jobs[2].waited), (5, 50))
+        self.waited([submit(), submit(tests=[(1, 0, 0)]), tick(5), cancel(1), tick(50)], [5, 50])
+
+    def test_jobs_of_closed_classes_wait_too(self):
+        self.waited([submit(), [9, 1], [8, 1, 0], tick(5)], [5])
